@@ -1,0 +1,1 @@
+"""Meters of an electricity market: from registers to quarters."""
