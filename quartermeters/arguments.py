@@ -24,6 +24,7 @@ LIMITS = {
     "hand": (0, 32),
     "from": (0, 10000),
     "to": (0, 10000),
+    "most": (0, 1000000000000),
 }
 
 # The arguments of each call by its number; profile has a row instead.
@@ -39,6 +40,17 @@ ARGUMENTS = {
     9: ("meter", "boundary"),
     10: ("meter", "boundary"),
     11: ("meter", "quarter"),
+    12: ("meter", "from", "to"),
+    13: ("meter", "boundary"),
+    14: ("meter", "quarter"),
+    15: ("hand", "zone", "from", "to"),
+    16: ("zone", "from", "to"),
+    17: ("from", "to"),
+    18: ("meter",),
+    19: ("meter", "most"),
+    20: ("boundary",),
+    21: ("from", "to"),
+    22: (),
 }
 
 
@@ -67,3 +79,7 @@ def all_within(given):
     if "weights" in given:
         return are_weights(given["weights"])
     return all([is_within(name, number) for name, number in given.items()])
+
+
+def is_backwards(given):
+    return "to" in given and given["to"] < given["from"]

@@ -1,10 +1,11 @@
 """The calls that change what is kept. Each looks for a refusal first, so that a refused call changes nothing."""
 
-from quartermeters.hands import HAND_COUNT, ZONE_TO_ZONE, listed_by_hand, nets_between
+from quartermeters.hands import HAND_COUNT, listed_by_hand, nets_between
 from quartermeters.records import (
     Dial,
     Meter,
     Profile,
+    ZONE_TO_ZONE,
     has_reading_from,
     is_removed,
     last_dial,
@@ -15,7 +16,6 @@ from quartermeters.records import (
 )
 from quartermeters.refusals import (
     ACCEPTED,
-    BACKWARDS,
     CANNOT_SHOW,
     FULL,
     LOCKED,
@@ -195,8 +195,6 @@ def move_lock(book, given):
 
 def publish_period(book, given):
     period = (given["from"], given["to"])
-    if given["to"] < given["from"]:
-        return [BACKWARDS]
     if period not in book.periods and len(book.periods) == MOST_PERIODS:
         return [FULL]
     nets = nets_between(book, given["from"], given["to"])

@@ -19,6 +19,8 @@ ESTIMATED = 3
 class Course:
     def __init__(self, knots, amounts, profile, tail, removed):
         self.knots = knots
+        # What goes through between each knot and the next one.
+        self.amounts = amounts
         # What is through by each knot.
         self.totals = running_sums(amounts)
         self.profile = profile
@@ -71,7 +73,7 @@ def through_by(course, boundary):
 def through_within(course, place, boundary):
     start = course.knots[place]
     end = course.knots[place + 1]
-    amount = course.totals[place + 1] - course.totals[place]
+    amount = course.amounts[place]
     weight = weight_between(course.profile, start, end)
     if weight == 0:
         return amount * (boundary - start) // (end - start)
@@ -80,6 +82,11 @@ def through_within(course, place, boundary):
 
 def through_between(course, start, end):
     return through_by(course, end) - through_by(course, start)
+
+
+# Each pair of neighbouring knots, and what goes through between them.
+def gaps_of(course):
+    return list(zip(course.knots, course.knots[1:], course.amounts))
 
 
 def how_known(course, quarter):

@@ -1,11 +1,9 @@
-"""Whose hand a meter is in, and what each hand's net comes to."""
+"""Whose hand a meter is in, what goes through in a hand, and what each hand's net comes to."""
 
 from quartermeters.flow import course_of, through_between
+from quartermeters.records import INTO_ZONE, OUT_OF_ZONE
 
 HAND_COUNT = 33
-OUT_OF_ZONE = 0
-INTO_ZONE = 1
-ZONE_TO_ZONE = 2
 
 
 # The parts of a stretch within each of which the meter stays in one hand: (start, end, hand).
@@ -23,6 +21,17 @@ def parts_by_hand(meter, start, end):
         hand = meter.told[quarter]
     parts.append((begun, end, hand))
     return parts
+
+
+# One quarter has one part only.
+def hand_at(meter, quarter):
+    return parts_by_hand(meter, quarter, quarter + 1)[0][2]
+
+
+def through_in_hand(book, meter, hand, start, end):
+    course = course_of(book, meter)
+    parts = [part for part in parts_by_hand(meter, start, end) if part[2] == hand]
+    return sum([through_between(course, part[0], part[1]) for part in parts])
 
 
 def sign_of(meter):

@@ -5,6 +5,11 @@ A dial is what the document calls one of a meter's registers.
 
 STRUCK = -1
 
+# The kinds of meters.
+OUT_OF_ZONE = 0
+INTO_ZONE = 1
+ZONE_TO_ZONE = 2
+
 
 class Profile:
     def __init__(self, weights):

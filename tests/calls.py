@@ -2,6 +2,38 @@
 
 from quartermeters.desk import answers
 
+# The ranges of each call's arguments, in their order.
+METER = (1, 32)
+BOUNDARY = (0, 10000)
+QUARTER = (0, 9999)
+SHOWN = (0, 999999999)
+HAND = (0, 32)
+ZONE = (0, 7)
+RANGES = {
+    1: [(0, 2), ZONE, ZONE, BOUNDARY, (1, 9), (1, 10000), SHOWN, (0, 8), (0, 1000000)],
+    2: [METER, BOUNDARY, (1, 1000000), (-1, 999999999)],
+    3: [METER, BOUNDARY, SHOWN, SHOWN, (1, 9), (1, 10000)],
+    4: [METER, BOUNDARY, SHOWN],
+    5: [METER, (0, 1000000)],
+    6: [METER, QUARTER, HAND],
+    7: [BOUNDARY],
+    8: [BOUNDARY, BOUNDARY],
+    9: [METER, BOUNDARY],
+    10: [METER, BOUNDARY],
+    11: [METER, QUARTER],
+    12: [METER, BOUNDARY, BOUNDARY],
+    13: [METER, BOUNDARY],
+    14: [METER, QUARTER],
+    15: [HAND, ZONE, BOUNDARY, BOUNDARY],
+    16: [ZONE, BOUNDARY, BOUNDARY],
+    17: [BOUNDARY, BOUNDARY],
+    18: [METER],
+    19: [METER, (0, 10 ** 12)],
+    20: [BOUNDARY],
+    21: [BOUNDARY, BOUNDARY],
+    22: [],
+}
+
 
 def profile(*weights):
     return [0, len(weights), *weights]
@@ -51,6 +83,55 @@ def value(meter, quarter):
     return [11, meter, quarter]
 
 
+def between(meter, start, end):
+    return [12, meter, start, end]
+
+
+def through(meter, boundary):
+    return [13, meter, boundary]
+
+
+def hand(meter, quarter):
+    return [14, meter, quarter]
+
+
+def total(number, zone, start, end):
+    return [15, number, zone, start, end]
+
+
+def rest(zone, start, end):
+    return [16, zone, start, end]
+
+
+def nets(start, end):
+    return [17, start, end]
+
+
+def gaps(meter):
+    return [18, meter]
+
+
+def doubt(meter, most):
+    return [19, meter, most]
+
+
+def unread(boundary):
+    return [20, boundary]
+
+
+def published(start, end):
+    return [21, start, end]
+
+
+def state():
+    return [22]
+
+
+def put_in(call, place, number):
+    """The call with another number as its argument at this place, counted from 0."""
+    return call[:place + 1] + [number] + call[place + 2:]
+
+
 def joined(calls):
     return [number for call in calls for number in call]
 
@@ -82,6 +163,15 @@ def last(*calls):
         if part[0] != 0:
             raise ValueError(f"{call} was refused by {part}")
     return parts[-1]
+
+
+def asked(before, *calls):
+    """What each of the calls answers behind its 0; they ask, so they all see what the calls before them left."""
+    parts = ask(*before, *calls)
+    for call, part in zip([*before, *calls], parts):
+        if part[0] != 0:
+            raise ValueError(f"{call} was refused by {part}")
+    return [part[1:] for part in parts[len(before):]]
 
 
 def values(meter, quarters, *calls):

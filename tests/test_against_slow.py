@@ -1,18 +1,32 @@
 """The desk against a slow telling of the document that walks quarter by quarter and keeps plain rows."""
 
+import itertools
 import random
 import unittest
 
+from quartermeters.desk import answers
 from tests.calls import (
-    ask, assign, history, install, lock, profile, publish, rate, read, remove, standing, swap, value,
+    RANGES, ask, assign, between, doubt, gaps, hand, history, install, joined, lock, nets, parted, profile, publish,
+    published, put_in, rate, read, remove, rest, standing, state, swap, through, total, unread, value,
 )
 
-# The slow one walks this many quarters; the calls drawn stay within them.
-SPAN = 24
+NAMES = (
+    "profile install read swap remove rate assign lock publish standing history value between through hand total rest "
+    "nets gaps doubt unread published state"
+).split()
+NAMING_A_METER = (2, 3, 4, 5, 6, 9, 10, 11, 12, 13, 14, 18, 19)
+REFUSING_BACKWARDS = (8, 12, 15, 16, 17)
+FIRST_QUESTION = 9
+ALL_QUARTERS = 10000
+FEW_QUARTERS = 24
+FAR = 10 ** 18
 
 
 class Slow:
-    def __init__(self):
+    """It walks so many quarters; the calls that it's asked stay within them."""
+
+    def __init__(self, span):
+        self.span = span
         self.profiles = {0: [1]}
         self.meters = {}
         self.readings = []
@@ -27,7 +41,7 @@ class Slow:
     def knots(self, number):
         """Each knot's boundary: what is shown up to it, and what is shown from it on."""
         knots = {}
-        for boundary in range(SPAN + 1):
+        for boundary in {entry[1] for entry in self.readings if entry[0] == number}:
             found = self.stands(number, boundary)
             if found:
                 knots[boundary] = [found[1], found[1]]
@@ -40,48 +54,78 @@ class Slow:
     def row_of(self, number, quarter):
         return [row for row in self.meters[number]["rows"] if row[0] <= quarter][-1]
 
+    def stretches(self, number):
+        """Both boundaries of each pair of neighbouring knots, and what goes through between them."""
+        knots = self.knots(number)
+        told = []
+        for a, b in itertools.pairwise(sorted(knots)):
+            row = self.row_of(number, a)
+            told.append((a, b, (knots[b][0] - knots[a][1]) % 10 ** row[2] * row[3]))
+        return told
+
     def quarters(self, number):
         """How each quarter is known, and its value."""
         meter = self.meters[number]
-        knots = self.knots(number)
-        bounds = sorted(knots)
-        told = [(0, 0)] * bounds[0]
-        for a, b in zip(bounds, bounds[1:]):
-            row = self.row_of(number, a)
-            whole = (knots[b][0] - knots[a][1]) % 10 ** row[2] * row[3]
-            weights = self.profiles[meter["profile"]]
+        weights = self.profiles[meter["profile"]]
+        told = [(0, 0)] * min(self.knots(number))
+        for a, b, whole in self.stretches(number):
             spread = [weights[quarter % len(weights)] for quarter in range(a, b)]
             if sum(spread) == 0:
                 spread = [1] * (b - a)
-            by = [whole * sum(spread[:count]) // sum(spread) for count in range(b - a + 1)]
-            told += [(1 if b == a + 1 else 2, after - before) for before, after in zip(by, by[1:])]
+            in_all = sum(spread)
+            by = [whole * part // in_all for part in itertools.accumulate(spread, initial=0)]
+            told += [(1 if b == a + 1 else 2, after - before) for before, after in itertools.pairwise(by)]
         last = meter["rows"][-1]
         tail = (3, meter["rate"] * last[3]) if last[4] is None else (0, 0)
-        return told + [tail] * (SPAN - len(told))
+        return told + [tail] * (self.span - len(told))
 
-    def hand(self, number, quarter):
-        told = [at for meter, at in self.hands if meter == number and at <= quarter]
-        return self.hands[(number, max(told))] if told else 0
+    def amounts(self, number, start, end):
+        return [amount for how, amount in self.quarters(number)[start:end]]
+
+    def holders(self, number, start, end):
+        """In whose hand the meter is at each of these quarters."""
+        told = []
+        holder = 0
+        for quarter in range(end):
+            holder = self.hands.get((number, quarter), holder)
+            told.append(holder)
+        return told[start:]
+
+    def in_hands(self, kind, zones, start, end):
+        """What goes through the meters of this kind and of these zones, by hand."""
+        told = [0] * 33
+        for number, meter in self.meters.items():
+            if meter["kind"] == kind and meter["zone"] in zones:
+                for holder, amount in zip(self.holders(number, start, end), self.amounts(number, start, end)):
+                    told[holder] += amount
+        return told
 
     def nets(self, start, end):
-        nets = {hand: 0 for hand in range(33)}
-        for number, meter in self.meters.items():
-            quarters = self.quarters(number)
-            for quarter in range(start, end):
-                nets[self.hand(number, quarter)] += {0: -1, 1: 1, 2: 0}[meter["kind"]] * quarters[quarter][1]
-        return nets
+        both = [self.in_hands(kind, range(8), start, end) for kind in (1, 0)]
+        return [into - out for into, out in zip(*both)]
 
     def unread(self, number, boundary):
         knots = self.knots(number)
         end = self.meters[number]["rows"][-1][4]
         return min(knots) < boundary and not (end is not None and end < boundary) and boundary not in knots
 
+    def listed(self, by_hand):
+        told = [pair for pair in enumerate(by_hand) if pair[1] != 0]
+        return [len(told)] + joined(told)
+
+    def is_out_of_range(self, call):
+        if call[0] == 0:
+            return not 1 <= call[1] <= 96 or [weight for weight in call[2:] if not 0 <= weight <= 1000] != []
+        return not all([least <= number <= most for number, (least, most) in zip(call[1:], RANGES[call[0]])])
+
     def answer(self, call):
-        place = call[0]
-        if place in (2, 3, 4, 5, 6, 9, 10, 11) and call[1] not in self.meters:
+        if self.is_out_of_range(call):
+            return [-1]
+        if call[0] in NAMING_A_METER and call[1] not in self.meters:
             return [-3]
-        name = "profile install read swap remove rate assign lock publish standing history value".split()[place]
-        return getattr(self, "do_" + name)(*call[1:])
+        if call[0] in REFUSING_BACKWARDS and call[-1] < call[-2]:
+            return [-11]
+        return getattr(self, "do_" + NAMES[call[0]])(*call[1:])
 
     def do_profile(self, count, *weights):
         if len(self.profiles) == 9:
@@ -99,7 +143,9 @@ class Slow:
                 return [refusal]
         number = len(self.meters) + 1
         rows = [(boundary, start, digits, factor, None, None)]
-        self.meters[number] = {"kind": kind, "profile": profile, "rate": rate, "rows": rows}
+        self.meters[number] = {
+            "kind": kind, "zone": zone, "second": second, "profile": profile, "rate": rate, "rows": rows,
+        }
         return [0, number]
 
     def do_read(self, number, boundary, version, shown):
@@ -154,14 +200,14 @@ class Slow:
         self.meters[number]["rate"] = rate
         return [0]
 
-    def do_assign(self, number, quarter, hand):
+    def do_assign(self, number, quarter, holder):
         if self.meters[number]["kind"] == 2:
             return [-12]
         if quarter < self.lock:
             return [-5]
         if len(self.hands) == 64 and (number, quarter) not in self.hands:
             return [-4]
-        self.hands[(number, quarter)] = hand
+        self.hands[(number, quarter)] = holder
         return [0]
 
     def do_lock(self, boundary):
@@ -173,16 +219,11 @@ class Slow:
         return [0]
 
     def do_publish(self, start, end):
-        if end < start:
-            return [-11]
         if len(self.periods) == 16 and (start, end) not in self.periods:
             return [-4]
-        before = self.periods.get((start, end), {})
-        nets = self.nets(start, end)
-        self.periods[(start, end)] = nets
-        told = [(hand, nets[hand] - before.get(hand, 0)) for hand in sorted(nets)]
-        told = [pair for pair in told if pair[1]]
-        return [0, len(told)] + [number for pair in told for number in pair]
+        before = self.periods.get((start, end), [0] * 33)
+        self.periods[(start, end)] = self.nets(start, end)
+        return [0] + self.listed([now - then for now, then in zip(self.periods[(start, end)], before)])
 
     def do_standing(self, number, boundary):
         found = self.stands(number, boundary)
@@ -190,71 +231,223 @@ class Slow:
 
     def do_history(self, number, boundary):
         found = sorted([entry[2:] for entry in self.readings if entry[:2] == (number, boundary)])
-        return [0, len(found)] + [part for entry in found for part in entry]
+        return [0, len(found)] + joined(found)
 
     def do_value(self, number, quarter):
         return [0, *self.quarters(number)[quarter]]
 
+    def do_between(self, number, start, end):
+        return [0, sum(self.amounts(number, start, end))]
 
-def draw_call(draw):
-    """A call whose numbers lie within their ranges and close enough to one another to meet."""
-    meter = draw.randint(1, 4)
-    boundary = draw.randint(0, SPAN)
-    quarter = draw.randint(0, SPAN - 1)
-    shown = draw.choice([draw.randint(0, 9), draw.randint(0, 99), draw.randint(0, 1100)])
-    start = draw.choice([draw.randint(0, 9), draw.randint(0, 99), draw.randint(0, 1100)])
-    digits = draw.randint(1, 4)
-    factor = draw.randint(1, 3)
-    kind = draw.randint(0, 2)
-    second = draw.randint(0, 1) if kind == 2 else draw.choice([0, 0, 0, 0, 1])
-    ends = draw.sample(range(SPAN + 1), 2)
-    ends = draw.choice([sorted(ends), sorted(ends), ends, [3, 17], [0, SPAN], [boundary, boundary]])
-    kinds = [
-        lambda: profile(*[draw.randint(0, 3) for weight in range(draw.randint(1, 5))]),
-        lambda: install(kind, draw.randint(0, 1), second, draw.randint(0, 9), digits, factor, start,
-                        draw.randint(0, 2), draw.randint(0, 5)),
-        lambda: read(meter, boundary, draw.randint(1, 3), draw.choice([-1, shown, shown])),
-        lambda: swap(meter, boundary, shown, start, digits, factor),
-        lambda: remove(meter, boundary, shown),
-        lambda: rate(meter, draw.randint(0, 5)),
-        lambda: assign(meter, quarter, draw.randint(0, 4)),
-        lambda: lock(draw.randint(0, 6)),
-        lambda: publish(*ends),
-        lambda: standing(meter, boundary),
-        lambda: history(meter, boundary),
-        lambda: value(meter, quarter),
-    ]
-    return draw.choices(kinds, [1, 2, 20, 4, 1, 3, 8, 2, 8, 6, 6, 20])[0]()
+    def do_through(self, number, boundary):
+        return [0, sum(self.amounts(number, 0, boundary))]
+
+    def do_hand(self, number, quarter):
+        return [0, *self.holders(number, quarter, quarter + 1)]
+
+    def do_total(self, holder, zone, start, end):
+        return [0] + [self.in_hands(kind, [zone], start, end)[holder] for kind in (1, 0)]
+
+    def do_rest(self, zone, start, end):
+        told = 0
+        for number, meter in self.meters.items():
+            into = {0: [], 1: [meter["zone"]], 2: [meter["second"]]}[meter["kind"]]
+            out = {0: [meter["zone"]], 1: [], 2: [meter["zone"]]}[meter["kind"]]
+            told += ((zone in into) - (zone in out)) * sum(self.amounts(number, start, end))
+        return [0, told]
+
+    def do_nets(self, start, end):
+        return [0] + self.listed(self.nets(start, end))
+
+    def do_gaps(self, number):
+        told = self.stretches(number)
+        return [0, len(told)] + joined(told)
+
+    def do_doubt(self, number, most):
+        told = [(a, b) for a, b, amount in self.stretches(number) if amount > most * (b - a)]
+        return [0, len(told)] + joined(told)
+
+    def do_unread(self, boundary):
+        told = [number for number in sorted(self.meters) if self.unread(number, boundary)]
+        return [0, len(told)] + told
+
+    def do_published(self, start, end):
+        if (start, end) not in self.periods:
+            return [0, 0]
+        return [0, 1] + self.listed(self.periods[(start, end)])
+
+    def do_state(self):
+        counts = [len(self.profiles) - 1, len(self.meters), len(self.readings), len(self.hands)]
+        return [0] + counts + [self.lock, len(self.periods)]
 
 
-def draw_calls(draw):
-    """Some profiles and meters, and calls that mostly find them."""
-    calls = [profile(*[draw.randint(0, 3) for weight in range(draw.randint(1, 5))]) for place in range(2)]
-    for meter in range(3):
-        kind = draw.randint(0, 2)
-        calls.append(install(kind, 0, kind // 2, draw.randint(0, 4), draw.randint(1, 4), draw.randint(1, 3),
-                             draw.randint(0, 9), draw.randint(0, 2), draw.randint(0, 5)))
-    return calls + [draw_call(draw) for place in range(145)]
+class Drawing:
+    """Draws calls whose numbers mostly lie within their ranges and close enough to one another to meet."""
+
+    def __init__(self, seed, span):
+        self.draw = random.Random(seed)
+        self.number = self.draw.randint
+        self.span = span
+
+    def boundary(self):
+        if self.span == FEW_QUARTERS:
+            return self.number(0, self.span)
+        return self.number(*self.draw.choice([(0, 30), (0, self.span), (self.span - 20, self.span)]))
+
+    def quarter(self):
+        return min(self.boundary(), self.span - 1)
+
+    def period(self):
+        one, other = self.boundary(), self.boundary()
+        ordered = [min(one, other), max(one, other)]
+        return self.draw.choice([ordered, ordered, [one, other], [3, 17], [0, self.span], [one, one]])
+
+    def meter(self):
+        return self.draw.choice([1, 2, 3, 4, 1, 2, 3, 4, 1, 2, 3, 5, 6, 7])
+
+    def shown(self):
+        return self.number(0, self.draw.choice([9, 99, 1100]))
+
+    def most(self):
+        return self.draw.choice([0, self.number(0, 9), self.number(0, 300), 10 ** 12])
+
+    def profile(self):
+        return profile(*[self.number(0, self.draw.choice([0, 3])) for weight in range(self.number(1, 5))])
+
+    def install(self, kind, boundary):
+        second = self.number(0, 2) if kind == 2 else self.draw.choice([0] * 9 + [1])
+        return install(kind, self.number(0, 2), second, boundary, self.number(1, 4), self.number(1, 3), self.shown(),
+                       self.draw.choice([0, 1, 2] * 3 + [3]), self.number(0, 5))
+
+    def read(self):
+        return read(self.meter(), self.boundary(), self.number(1, 4), self.draw.choice([-1, *[self.shown()] * 3]))
+
+    def swap(self):
+        return swap(self.meter(), self.boundary(), self.shown(), self.shown(), self.number(1, 4), self.number(1, 3))
+
+    def remove(self):
+        return remove(self.meter(), self.boundary(), self.shown())
+
+    def right_call(self):
+        kinds = [
+            (1, self.profile),
+            (2, lambda: self.install(self.number(0, 2), self.number(0, 9))),
+            (30, self.read),
+            (5, self.swap),
+            (1, self.remove),
+            (3, lambda: rate(self.meter(), self.number(0, 5))),
+            (8, lambda: assign(self.meter(), self.quarter(), self.number(0, 4))),
+            (2, lambda: lock(self.number(0, 8))),
+            (6, lambda: publish(*self.period())),
+            (4, lambda: standing(self.meter(), self.boundary())),
+            (4, lambda: history(self.meter(), self.boundary())),
+            (6, lambda: value(self.meter(), self.quarter())),
+            (8, lambda: between(self.meter(), *self.period())),
+            (8, lambda: through(self.meter(), self.boundary())),
+            (8, lambda: hand(self.meter(), self.quarter())),
+            (8, lambda: total(self.number(0, 4), self.number(0, 2), *self.period())),
+            (8, lambda: rest(self.number(0, 2), *self.period())),
+            (8, lambda: nets(*self.period())),
+            (6, lambda: gaps(self.meter())),
+            (6, lambda: doubt(self.meter(), self.most())),
+            (6, lambda: unread(self.boundary())),
+            (6, lambda: published(*self.period())),
+            (4, state),
+        ]
+        return self.draw.choices([make for often, make in kinds], [often for often, make in kinds])[0]()
+
+    def spoiled(self, call):
+        """The call with one of its numbers out of its range, if it has any."""
+        if call[0] == 0:
+            return self.draw.choice([profile(), profile(*[1] * 97), profile(1, -1), profile(1001), profile(FAR, 1)])
+        if RANGES[call[0]] == []:
+            return call
+        place = self.draw.randrange(len(RANGES[call[0]]))
+        least, most = RANGES[call[0]][place]
+        return put_in(call, place, self.draw.choice([least - 1, most + 1, -FAR, FAR]))
+
+    def call(self):
+        call = self.right_call()
+        return self.spoiled(call) if self.number(1, 25) == 1 else call
+
+    def calls(self, count=400):
+        """Some profiles, meters of every kind and swaps, and calls that mostly find them."""
+        first = [self.profile(), self.profile()]
+        first += [self.install(kind, self.number(0, 4)) for kind in (0, 1, 2, 0, 1, 2)]
+        # Readings stand in the way of swaps and removes, so most of these come before them.
+        first += [self.swap() for place in range(12)] + [self.remove() for place in range(2)]
+        return first + [self.call() for place in range(count - len(first))]
 
 
 class AgainstSlow(unittest.TestCase):
+    def hold(self, seed, span):
+        calls = Drawing(seed, span).calls()
+        slow = Slow(span)
+        expected = [slow.answer(call) for call in calls]
+        with self.subTest(seed=seed):
+            self.assertEqual(ask(*calls), expected)
+
     def test_drawn_calls(self):
-        for seed in range(250):
-            draw = random.Random(seed)
-            calls = draw_calls(draw)
-            slow = Slow()
-            expected = [slow.answer(call) for call in calls]
-            with self.subTest(seed=seed):
-                self.assertEqual(ask(*calls), expected)
+        for seed in range(60):
+            self.hold(seed, FEW_QUARTERS)
+
+    def test_drawn_calls_over_all_quarters(self):
+        for seed in range(2000, 2004):
+            self.hold(seed, ALL_QUARTERS)
+
+    def test_every_call_is_drawn_and_accepted_and_every_refusal_comes(self):
+        told = [(call[0], part[0]) for seed in range(60) for calls in [Drawing(seed, FEW_QUARTERS).calls()]
+                for call, part in zip(calls, ask(*calls))]
+        self.assertEqual({place for place, first in told if first == 0}, set(range(23)))
+        self.assertEqual({first for place, first in told}, set(range(-12, 1)))
+        self.assertEqual({place for place, first in told if first == -1}, set(range(22)))
+        self.assertEqual({place for place, first in told if first == -3}, set(NAMING_A_METER))
+        self.assertEqual({place for place, first in told if first == -11}, set(REFUSING_BACKWARDS))
+
+
+class LeftOut(unittest.TestCase):
+    def hold(self, seed, is_left_out):
+        """The others answer the same with and without the calls that are left out."""
+        calls = Drawing(seed, FEW_QUARTERS).calls()
+        others = [(call, part) for call, part in zip(calls, ask(*calls)) if not is_left_out(call, part)]
+        with self.subTest(seed=seed):
+            self.assertLess(len(others), len(calls))
+            self.assertEqual(ask(*[call for call, part in others]), [part for call, part in others])
 
     def test_refused_calls_might_as_well_not_have_been(self):
-        for seed in range(1000, 1100):
-            draw = random.Random(seed)
-            calls = draw_calls(draw)
+        for seed in range(1000, 1030):
+            self.hold(seed, lambda call, part: part[0] != 0)
+
+    def test_each_question_changes_nothing(self):
+        for place in range(FIRST_QUESTION, len(NAMES)):
+            for seed in range(1100, 1105):
+                self.hold(seed, lambda call, part: call[0] == place)
+
+    def test_all_questions_together_change_nothing(self):
+        for seed in range(1200, 1210):
+            self.hold(seed, lambda call, part: call[0] >= FIRST_QUESTION)
+
+    def test_a_question_asked_twice_answers_twice_the_same(self):
+        for seed in range(1300, 1310):
+            calls = Drawing(seed, FEW_QUARTERS).calls(200)
             told = list(zip(calls, ask(*calls)))
-            accepted = [(call, part) for call, part in told if part[0] == 0]
+            twice = [pair for pair in told for again in range(1 + (pair[0][0] >= FIRST_QUESTION))]
             with self.subTest(seed=seed):
-                self.assertEqual(ask(*[call for call, part in accepted]), [part for call, part in accepted])
+                self.assertEqual(ask(*[call for call, part in twice]), [part for call, part in twice])
+
+
+class TheList(unittest.TestCase):
+    def test_stays_as_it_is_and_is_answered_the_same_a_second_time(self):
+        for seed in range(3000, 3010):
+            calls = joined(Drawing(seed, FEW_QUARTERS).calls())
+            copy = list(calls)
+            first = answers(calls)
+            with self.subTest(seed=seed):
+                self.assertEqual(calls, copy)
+                self.assertEqual(len(parted(first)), 400)
+                self.assertEqual({type(number) for number in first}, {int})
+                answers(joined(Drawing(seed + 500, FEW_QUARTERS).calls()))
+                self.assertEqual(answers(calls), first)
 
 
 if __name__ == "__main__":

@@ -1,4 +1,7 @@
-"""The package keeps to the small part of Python that it may use: what of the rules L1 to L28 can be seen in its rows."""
+"""The package keeps to the small part of Python that it may use: what of the rules L1 to L28 its rows show.
+
+L9 follows from others: only the package's own files are imported (L2), and no name that reads or prints is used (L8).
+"""
 
 import ast
 import builtins
@@ -39,6 +42,11 @@ WORDS = (
 )
 DUNDER = ("__init__", "__eq__", "__repr__", "__str__", "__len__")
 WALKED = "zip enumerate reversed range".split()
+FRAMES = ("f_", "tb_", "co_", "gi_", "cr_", "ag_")
+KEYWORDS = {
+    "sorted": ["key", "reverse"], "min": ["key", "default"], "max": ["key", "default"], "sum": ["start"],
+    "enumerate": ["start"], "zip": ["strict"],
+}
 PYTHONS_OWN = {name for kind in (str, int, list, dict, set, bytes, tuple) for name in dir(kind)}
 
 
@@ -99,6 +107,7 @@ class Language(unittest.TestCase):
             self.assertRegex(name, r"^([a-z][a-z0-9_]*|__init__)\.py$")
             self.assertNotIn(name[:-3], dir(builtins))
             self.assertNotRegex(name, r"^(test|site|conftest|sitecustomize|usercustomize)")
+            self.assertIsNone(re.search(WORDS, name[:-3]))
         for file in FILES:
             self.assertRegex(file.text, r"\A[ -~\n]*\Z")
 
@@ -151,9 +160,19 @@ class Language(unittest.TestCase):
         self.assertLessEqual({name for name in methods if name.startswith("__")}, set(DUNDER))
         stored = {node.attr for file in FILES for node in file.of(ast.Attribute) if isinstance(node.ctx, ast.Store)}
         self.assertEqual(methods & stored, set())
-        self.assertEqual(stored & PYTHONS_OWN, set())
+        self.assertEqual((stored | methods) & PYTHONS_OWN, {"__init__"})
         self.each(lambda node: isinstance(node.value, ast.Name) and node.value.id.islower(),
                   lambda file: [node for node in file.of(ast.Attribute) if isinstance(node.ctx, ast.Store)])
+
+    def test_l18_a_class_is_only_called(self):
+        classes = {node.name for file in FILES for node in file.classes}
+        called = {id(node.func) for file in FILES for node in file.of(ast.Call)}
+        self.each(lambda node: node.id not in classes or id(node) in called, lambda file: file.of(ast.Name))
+
+    def test_l28_init_gives_back_nothing(self):
+        self.each(lambda node: node.name != "__init__" or not [part for part in ast.walk(node)
+                                                                if isinstance(part, ast.Return)],
+                  lambda file: file.defs)
 
     def test_l6_statements(self):
         self.each(lambda node: isinstance(node, STATEMENTS + (ast.ImportFrom, ast.ClassDef)),
@@ -174,6 +193,8 @@ class Language(unittest.TestCase):
                   lambda file: file.of(ast.ListComp))
         self.each(lambda node: not isinstance(node.value, str) or "%" not in node.value,
                   lambda file: file.of(ast.Constant))
+        for file in FILES:
+            self.assertNotIn("\\", file.text)
 
     def test_l8_l12_l17_names(self):
         self.each(lambda node: node.id in BUILT_IN or not hasattr(builtins, node.id), lambda file: file.of(ast.Name))
@@ -183,6 +204,7 @@ class Language(unittest.TestCase):
             for name in names:
                 self.assertRegex(name, r"^[A-Za-z][A-Za-z0-9_]*$")
                 self.assertNotIn(name, UNUSED)
+                self.assertFalse(name.startswith(FRAMES))
             self.assertIsNone(re.search(WORDS, file.text), file.name)
 
     def test_l10_sizes(self):
@@ -191,6 +213,24 @@ class Language(unittest.TestCase):
             rows = file.text.split("\n")
             self.assertLessEqual(len(rows), 400)
             self.assertLessEqual(max([len(row) for row in rows]), 120)
+
+    def test_l11_no_function_comes_back_to_itself(self):
+        left = {node.name: {part.id for part in ast.walk(node) if isinstance(part, ast.Name)}
+                for file in FILES for node in file.defs}
+        while left:
+            free = [name for name in left if not left[name] & set(left)]
+            self.assertTrue(free, f"a circle among {sorted(left)}")
+            for name in free:
+                del left[name]
+
+    def test_l13_l19_l24_forms_that_the_package_does_without(self):
+        # Each of these has rules of its own; as none is needed, none is looked into.
+        self.each(lambda node: False, lambda file: file.of((ast.Lambda, ast.Set, ast.Try, ast.Raise, ast.JoinedStr)))
+        self.each(lambda node: node.id not in ("set", "frozenset"), lambda file: file.of(ast.Name))
+        for file in FILES:
+            at_top = [node for node in file.tree.body if isinstance(node, ast.FunctionDef)]
+            methods = [part for node in file.classes for part in node.body]
+            self.assertEqual({id(node) for node in file.defs}, {id(node) for node in at_top + methods})
 
     def test_l15_locals_have_names_of_their_own(self):
         for file in FILES:
@@ -222,6 +262,24 @@ class Language(unittest.TestCase):
             return all(plain) or not [op for op in node.ops if isinstance(op, (ast.Is, ast.IsNot))]
         self.each(beside_none, lambda file: file.of(ast.Compare))
 
+    def test_l22_pythons_own_are_called(self):
+        for file in FILES:
+            called = {id(node.func) for node in file.of(ast.Call)}
+            keys = {id(node.value) for node in file.of(ast.keyword) if node.arg == "key"}
+            for node in file.of(ast.Name):
+                if node.id in BUILT_IN:
+                    with self.subTest(row=f"{file.name}:{node.lineno}"):
+                        self.assertIn(id(node), called | keys)
+
+    def test_l22_keywords(self):
+        own = {name for file in FILES for name in file.top}
+        for file in FILES:
+            for node in file.of(ast.Call):
+                name = getattr(node.func, "id", None)
+                if name not in own:
+                    with self.subTest(row=f"{file.name}:{node.lineno}"):
+                        self.assertLessEqual({keyword.arg for keyword in node.keywords}, set(KEYWORDS.get(name, [])))
+
     def test_l23_walked_at_once(self):
         for file in FILES:
             walks = [node.iter for node in file.of((ast.For, ast.comprehension))]
@@ -239,7 +297,8 @@ class Language(unittest.TestCase):
     def test_l23_what_is_walked_is_not_changed(self):
         for file in FILES:
             for loop in file.of(ast.For):
-                walked = {ast.unparse(node) for node in ast.walk(loop.iter) if isinstance(node, (ast.Name, ast.Attribute))}
+                walked = {ast.unparse(node) for node in ast.walk(loop.iter)
+                          if isinstance(node, (ast.Name, ast.Attribute))}
                 for node in ast.walk(loop):
                     if isinstance(node, ast.Subscript) and isinstance(node.ctx, ast.Store):
                         self.assertNotIn(ast.unparse(node.value), walked)
@@ -249,6 +308,8 @@ class Language(unittest.TestCase):
     def test_l25_methods(self):
         self.each(lambda node: node.func.attr in METHODS,
                   lambda file: [node for node in file.of(ast.Call) if isinstance(node.func, ast.Attribute)])
+        called = {id(node.func) for file in FILES for node in file.of(ast.Call)}
+        self.each(lambda node: node.attr not in METHODS or id(node) in called, lambda file: file.of(ast.Attribute))
 
 
 if __name__ == "__main__":

@@ -3,29 +3,11 @@
 import unittest
 
 from tests.calls import (
-    ask, assign, history, install, last, lock, profile, publish, rate, read, remove, standing, swap, value,
+    RANGES, ask, assign, between, doubt, gaps, hand, history, install, last, lock, nets, profile, publish, published,
+    put_in, rate, read, remove, rest, standing, state, swap, through, total, unread, value,
 )
 
 FAR = 10 ** 18
-
-# The ranges of each call's arguments, in their order.
-METER = (1, 32)
-BOUNDARY = (0, 10000)
-QUARTER = (0, 9999)
-SHOWN = (0, 999999999)
-RANGES = {
-    1: [(0, 2), (0, 7), (0, 7), BOUNDARY, (1, 9), (1, 10000), SHOWN, (0, 8), (0, 1000000)],
-    2: [METER, BOUNDARY, (1, 1000000), (-1, 999999999)],
-    3: [METER, BOUNDARY, SHOWN, SHOWN, (1, 9), (1, 10000)],
-    4: [METER, BOUNDARY, SHOWN],
-    5: [METER, (0, 1000000)],
-    6: [METER, QUARTER, (0, 32)],
-    7: [BOUNDARY],
-    8: [BOUNDARY, BOUNDARY],
-    9: [METER, BOUNDARY],
-    10: [METER, BOUNDARY],
-    11: [METER, QUARTER],
-}
 
 EIGHT_PROFILES = [profile(1)] * 8
 ALL_METERS = [install()] * 32
@@ -171,11 +153,29 @@ CASES = [
     ([install()], history(32, 5), -3),
     ([], value(1, 5), -3),
     ([install()], value(2, 5), -3),
+
+    ([], between(1, 4, 5), -3),
+    ([install()], between(2, 4, 5), -3),
+    ([install()], between(32, 4, 5), -3),
+    ([install()], between(2, 5, 4), -3),
+    ([install()], between(1, 5, 4), -11),
+    ([install()], between(1, 10000, 0), -11),
+    ([install(boundary=9)], between(1, 5, 4), -11),
+    ([], through(1, 5), -3),
+    ([install()], through(2, 5), -3),
+    ([], hand(1, 5), -3),
+    ([install(), assign(1, 5, 2)], hand(2, 5), -3),
+    ([], total(0, 0, 5, 4), -11),
+    ([install()], total(32, 7, 10000, 9999), -11),
+    ([], rest(0, 5, 4), -11),
+    ([install()], rest(7, 10000, 0), -11),
+    ([], nets(5, 4), -11),
+    ([install(rate=4)], nets(10000, 0), -11),
+    ([], gaps(1), -3),
+    (REMOVED, gaps(2), -3),
+    ([], doubt(1, 0), -3),
+    (REMOVED, doubt(2, 10 ** 12), -3),
 ]
-
-
-def put_in(call, place, number):
-    return call[:place + 1] + [number] + call[place + 2:]
 
 
 class Refusals(unittest.TestCase):
@@ -200,7 +200,8 @@ class Refusals(unittest.TestCase):
             publish(0, 15), publish(0, 9999), publish(0, 16), publish(4, 30),
             lock(2), rate(1, 7), value(1, 9999), assign(1, 5, 3), assign(1, 64, 3), publish(4, 30),
             read(1, 5, 3, 2), read(1, 256, 2, 1), swap(1, 300, 2), remove(1, 9000, 2), lock(9000),
-            profile(4, 5), install(profile=1), install(boundary=9000), publish(0, 15),
+            profile(4, 5), install(profile=1), install(boundary=9000), publish(0, 15), state(), unread(5), nets(0, 20),
+            gaps(1), hand(1, 5), published(0, 15),
         ]
         for before, call, refusal in CASES:
             with self.subTest(before=before[:5], call=call):
@@ -214,13 +215,30 @@ class Ranges(unittest.TestCase):
     BEFORE = [profile(1), install(), install(boundary=30)]
     ACCEPTED = [
         install(), read(1, 5, 1, 1), swap(1, 5, 1), remove(1, 5, 1), rate(1, 1), assign(1, 5, 1), lock(5),
-        publish(0, 5), standing(1, 5), history(1, 5), value(1, 5),
+        publish(0, 5), standing(1, 5), history(1, 5), value(1, 5), between(1, 0, 5), through(1, 5), hand(1, 5),
+        total(1, 1, 0, 5), rest(1, 0, 5), nets(0, 5), gaps(1), doubt(1, 5), unread(5), published(0, 5), state(),
     ]
 
     def test_every_argument_below_and_above(self):
         for call in self.ACCEPTED:
             for place, (least, most) in enumerate(RANGES[call[0]]):
                 for number in (least - 1, most + 1, -FAR, FAR):
+                    wrong = put_in(call, place, number)
+                    with self.subTest(call=wrong):
+                        self.assertEqual(last(*self.BEFORE, wrong), [-1])
+
+    def test_before_any_meter_too(self):
+        for call in self.ACCEPTED:
+            for place, (least, most) in enumerate(RANGES[call[0]]):
+                for number in (least - 1, most + 1, -FAR, FAR):
+                    wrong = put_in(call, place, number)
+                    with self.subTest(call=wrong):
+                        self.assertEqual(ask(wrong), [[-1]])
+
+    def test_a_wrong_number_comes_before_a_period_that_ends_too_soon(self):
+        for call in (between(1, 5, 4), total(1, 1, 5, 4), rest(1, 5, 4), nets(5, 4), published(5, 4)):
+            for place, (least, most) in enumerate(RANGES[call[0]]):
+                for number in (least - 1, most + 1):
                     wrong = put_in(call, place, number)
                     with self.subTest(call=wrong):
                         self.assertEqual(last(*self.BEFORE, wrong), [-1])
