@@ -70,6 +70,17 @@ def bound_names(function):
                     if isinstance(node, ast.Name) and isinstance(node.ctx, ast.Store)]
 
 
+def in_circles(leads_to):
+    """The names from which a way leads into a circle."""
+    left = dict(leads_to)
+    while True:
+        free = [name for name in left if not left[name] & set(left)]
+        if not free:
+            return sorted(left)
+        for name in free:
+            del left[name]
+
+
 class File:
     def __init__(self, path):
         self.name = path.stem
@@ -120,12 +131,8 @@ class Language(unittest.TestCase):
         self.each(lambda node: node.col_offset == 0, lambda file: file.of(ast.ImportFrom))
 
     def test_l16_no_circle(self):
-        left = {file.name: {node.module.split(".")[-1] for node in file.imports} for file in FILES}
-        while left:
-            free = [name for name in left if not left[name] & set(left)]
-            self.assertTrue(free, f"a circle among {sorted(left)}")
-            for name in free:
-                del left[name]
+        drawn = {file.name: {node.module.split(".")[-1] for node in file.imports} for file in FILES}
+        self.assertEqual(in_circles(drawn), [])
 
     def test_l3_l15_the_top_of_a_file(self):
         for file in FILES:
@@ -215,13 +222,9 @@ class Language(unittest.TestCase):
             self.assertLessEqual(max([len(row) for row in rows]), 120)
 
     def test_l11_no_function_comes_back_to_itself(self):
-        left = {node.name: {part.id for part in ast.walk(node) if isinstance(part, ast.Name)}
-                for file in FILES for node in file.defs}
-        while left:
-            free = [name for name in left if not left[name] & set(left)]
-            self.assertTrue(free, f"a circle among {sorted(left)}")
-            for name in free:
-                del left[name]
+        named = {node.name: {part.id for part in ast.walk(node) if isinstance(part, ast.Name)}
+                 for file in FILES for node in file.defs}
+        self.assertEqual(in_circles(named), [])
 
     def test_l13_l19_l24_forms_that_the_package_does_without(self):
         # Each of these has rules of its own; as none is needed, none is looked into.
